@@ -1,0 +1,80 @@
+// Package memcheck is for tests of what calls do with memory (R7, and the layers' promises of it): nothing that is handed in is changed, and no answer shares memory with it or with another answer.
+package memcheck
+
+import (
+	"slices"
+
+	"barrow/api"
+)
+
+// junk is in no list that a test hands in, or that a call answers.
+const junk = -77
+
+// A Region is the memory of a list, spare room included.
+type Region struct {
+	scribble  func()      // writes over all of it
+	untouched func() bool // is it still what it was when the Region was made?
+}
+
+// Of: the memory of a list. The waste is written where nothing may be lost.
+func Of[T any](list []T, waste T, equal func(x, y T) bool) Region {
+	whole := list[:cap(list)]
+	before := slices.Clone(whole)
+	return Region{
+		scribble: func() {
+			for i := range whole {
+				whole[i] = waste
+			}
+		},
+		untouched: func() bool { return slices.EqualFunc(whole, before, equal) },
+	}
+}
+
+func ofValues[T comparable](list []T, waste T) Region {
+	return Of(list, waste, func(x, y T) bool { return x == y })
+}
+
+// Numbers: the memory of a list of numbers.
+func Numbers(list []int) Region { return ofValues(list, junk) }
+
+// Dots: the memory of a list of dots.
+func Dots(list []api.Dot) Region { return ofValues(list, api.Dot{Rep: junk, Num: junk}) }
+
+// Spans: the memory of a list of spans.
+func Spans(list []api.Span) Region {
+	return ofValues(list, api.Span{Rep: junk, Lo: junk, Hi: junk})
+}
+
+// Past: the memory of a past's lists.
+func Past(p api.Past) []Region { return []Region{Numbers(p.Vec), Spans(p.Cloud)} }
+
+// Lists: the memory of lists of numbers, and of the list that holds them.
+func Lists(lists [][]int) []Region {
+	var all []Region
+	for _, list := range lists {
+		all = append(all, Numbers(list))
+	}
+	// The list of lists comes last: once it is written over, what it held can't be reached through it.
+	return append(all, Of(lists, []int{junk}, slices.Equal))
+}
+
+// Changed: is something of given changed, by now or by writes into what was answered?
+func Changed(given, answered []Region) bool {
+	for _, r := range answered {
+		r.scribble()
+	}
+	return slices.ContainsFunc(given, Region.isChanged)
+}
+
+// Shared: does a write into one of the regions change another of them?
+func Shared(all []Region) bool {
+	for i, r := range all {
+		r.scribble()
+		if slices.ContainsFunc(all[i+1:], Region.isChanged) {
+			return true
+		}
+	}
+	return false
+}
+
+func (r Region) isChanged() bool { return !r.untouched() }
