@@ -7,8 +7,11 @@ import (
 	"barrow/api"
 )
 
-// junk is in no list that a test hands in, or that a call answers.
-const junk = -77
+// junk and junkByte are in no list that a test hands in, or that a call answers.
+const (
+	junk     = -77
+	junkByte = 0xee
+)
 
 // A Region is the memory of a list, spare room included.
 type Region struct {
@@ -48,14 +51,32 @@ func Spans(list []api.Span) Region {
 // Past: the memory of a past's lists.
 func Past(p api.Past) []Region { return []Region{Numbers(p.Vec), Spans(p.Cloud)} }
 
+// Bytes: the memory of a list of bytes.
+func Bytes(list []byte) Region { return ofValues(list, junkByte) }
+
+// Entries: the memory of a list of entries.
+func Entries(list []api.Entry) Region {
+	return ofValues(list, api.Entry{Dot: api.Dot{Rep: junk, Num: junk}, Sku: "junk", Qty: junk})
+}
+
+// Lines: the memory of a list of lines.
+func Lines(list []api.Line) Region {
+	return ofValues(list, api.Line{Sku: "junk", Qty: junk, Parts: junk})
+}
+
 // Lists: the memory of lists of numbers, and of the list that holds them.
-func Lists(lists [][]int) []Region {
+func Lists(lists [][]int) []Region { return ofLists(lists, junk) }
+
+// ByteLists: the memory of lists of bytes, and of the list that holds them.
+func ByteLists(lists [][]byte) []Region { return ofLists(lists, junkByte) }
+
+func ofLists[T comparable](lists [][]T, waste T) []Region {
 	var all []Region
 	for _, list := range lists {
-		all = append(all, Numbers(list))
+		all = append(all, ofValues(list, waste))
 	}
 	// The list of lists comes last: once it is written over, what it held can't be reached through it.
-	return append(all, Of(lists, []int{junk}, slices.Equal))
+	return append(all, Of(lists, []T{waste}, slices.Equal[[]T]))
 }
 
 // Changed: is something of given changed, by now or by writes into what was answered?
