@@ -6,6 +6,7 @@ import (
 
 	"barrow/api"
 	"barrow/lines"
+	"barrow/sample"
 )
 
 func TestCheckEntry(t *testing.T) { // P6.1
@@ -39,14 +40,14 @@ func TestCheck(t *testing.T) { // P6.1
 			t.Errorf("Check(%v) = %d", list, got)
 		}
 	}
-	for _, list := range badLists() {
+	for _, list := range sample.WrongEntryLists() {
 		if got := lines.Check(list); got != api.ErrForm {
 			t.Errorf("Check(%v) = %d", list, got)
 		}
 	}
 	dice := newDice()
 	for range 2000 {
-		list, want := loose(dice, true), api.ErrForm
+		list, want := sample.LooseEntries(dice.IntN, true), api.ErrForm
 		if inForm(list) {
 			want = api.OK
 		}
@@ -71,10 +72,10 @@ func checkSort(t *testing.T, list []api.Entry) {
 func TestSort(t *testing.T) { // P6.1
 	dice := newDice()
 	for range 3000 {
-		checkSort(t, loose(dice, true))
-		checkSort(t, loose(dice, false))
+		checkSort(t, sample.LooseEntries(dice.IntN, true))
+		checkSort(t, sample.LooseEntries(dice.IntN, false))
 	}
-	for _, list := range slices.Concat(samples(100), badLists()) {
+	for _, list := range slices.Concat(samples(100), sample.WrongEntryLists()) {
 		checkSort(t, list)
 	}
 	for bad := range badEntries() {
@@ -177,7 +178,7 @@ func TestUnionsExamples(t *testing.T) { // P6.3
 			t.Errorf("Union(%v, %v) = %v, %d, want %v, %d", c.a, c.b, got, err, c.want, c.err)
 		}
 	}
-	for _, bad := range badLists() {
+	for _, bad := range sample.WrongEntryLists() {
 		for _, other := range [][]api.Entry{nil, example(), bad} {
 			for _, c := range [][2][]api.Entry{{bad, other}, {other, bad}} {
 				if got, err := lines.Union(c[0], c[1]); len(got) != 0 || err != api.ErrForm {

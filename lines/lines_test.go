@@ -6,6 +6,7 @@ import (
 
 	"barrow/api"
 	"barrow/lines"
+	"barrow/sample"
 )
 
 // linesOf is the chapter's definition of the lines, word by word.
@@ -25,7 +26,7 @@ func linesOf(list []api.Entry) []api.Line {
 }
 
 func lineOf(list []api.Entry, sku string) api.Line {
-	of := those(list, func(e api.Entry) bool { return e.Sku == sku })
+	of := sample.Those(list, func(e api.Entry) bool { return e.Sku == sku })
 	if len(of) == 0 {
 		return api.Line{}
 	}
@@ -110,7 +111,7 @@ func TestLinesExamples(t *testing.T) { // P6.4
 }
 
 func TestLinesOutOfForm(t *testing.T) { // P6.4
-	for _, list := range badLists() {
+	for _, list := range sample.WrongEntryLists() {
 		if got, err := lines.Lines(list); len(got) != 0 || err != api.ErrForm {
 			t.Errorf("Lines(%v) = %v, %d", list, got, err)
 		}

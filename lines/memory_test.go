@@ -7,6 +7,7 @@ import (
 	"barrow/api"
 	"barrow/lines"
 	"barrow/memcheck"
+	"barrow/sample"
 )
 
 type region = memcheck.Region
@@ -42,31 +43,19 @@ func callers() []caller {
 	}
 }
 
-// roomy: the entries with spare room behind them, in which there is something to lose.
-func roomy(list []api.Entry) []api.Entry {
-	return slices.Concat(list, es(en(0, 70, "Z", 7), en(0, 71, "Z", 7)))[:len(list)]
-}
-
-func roomyPast(p api.Past) api.Past {
-	return api.Past{
-		Vec:   slices.Concat(p.Vec, []int{70, 71})[:len(p.Vec)],
-		Cloud: slices.Concat(p.Cloud, []api.Span{sp(1, 70, 71), sp(2, 72, 73)})[:len(p.Cloud)],
-	}
-}
-
 func memoryLists() [][]api.Entry {
 	mixed := es(en(1, 4, "A", 1), en(0, 3, "A", 5), en(1, 4, "A", 1), en(1, 1, "B", 2))
-	return slices.Concat(edgeLists(), [][]api.Entry{mixed, slices.Concat(mixed, mixed), badLists()[0], badLists()[2]}, samples(12))
+	return slices.Concat(sample.EdgeEntryLists(), [][]api.Entry{mixed, slices.Concat(mixed, mixed), sample.WrongEntryLists()[0], sample.WrongEntryLists()[2]}, samples(12))
 }
 
-func memoryPasts() []api.Past { return slices.Concat(pasts(4), badPasts()[:3]) }
+func memoryPasts() []api.Past { return slices.Concat(pasts(4), sample.WrongPasts()[:3]) }
 
 func TestNothingHandedInIsChanged(t *testing.T) { // P6.5
 	for _, c := range callers() {
 		for _, x := range memoryLists() {
 			for _, y := range memoryLists() {
 				for _, q := range memoryPasts() {
-					a, b, p := roomy(x), roomy(y), roomyPast(q)
+					a, b, p := sample.RoomyEntries(x), sample.RoomyEntries(y), sample.RoomyPast(q)
 					given := append(memcheck.Past(p), memcheck.Entries(a), memcheck.Entries(b))
 					if memcheck.Changed(given, c.call(a, b, p)) {
 						t.Errorf("%s of %v, %v, %v: the call, or a write into its answer, changes what was handed in", c.name, x, y, q)
@@ -81,7 +70,7 @@ func TestNoTwoAnswersShareMemory(t *testing.T) { // P6.5
 	for _, c := range callers() {
 		for _, x := range memoryLists() {
 			for _, q := range memoryPasts() {
-				a, b, p := roomy(x), roomy(example()), roomyPast(q)
+				a, b, p := sample.RoomyEntries(x), sample.RoomyEntries(example()), sample.RoomyPast(q)
 				if memcheck.Shared(slices.Concat(c.call(a, b, p), c.call(a, b, p))) {
 					t.Errorf("%s of %v, %v: a write into one answer changes another", c.name, x, q)
 				}

@@ -7,6 +7,7 @@ import (
 	"barrow/api"
 	"barrow/lines"
 	"barrow/past"
+	"barrow/sample"
 )
 
 func checkFind(t *testing.T, list []api.Entry, d api.Dot) {
@@ -26,11 +27,11 @@ func checkFind(t *testing.T, list []api.Entry, d api.Dot) {
 func TestFind(t *testing.T) { // P6.1
 	dice := newDice()
 	for range 1000 {
-		list := loose(dice, true)
+		list := sample.LooseEntries(dice.IntN, true)
 		checkFind(t, list, api.Dot{Rep: dice.IntN(3), Num: 1 + dice.IntN(6)})
 		checkFind(t, list, api.Dot{Rep: 15, Num: api.MaxNum - dice.IntN(3)})
 	}
-	for _, list := range slices.Concat(edgeLists(), badLists()) {
+	for _, list := range slices.Concat(sample.EdgeEntryLists(), sample.WrongEntryLists()) {
 		for _, e := range list {
 			checkFind(t, list, e.Dot)
 		}
@@ -58,7 +59,7 @@ func noReps() []int { return []int{leastInt, -1, 16, 17, greatInt} }
 func TestOf(t *testing.T) { // P6.2
 	for _, list := range samples(300) {
 		for _, sku := range someSkus() {
-			want := those(list, func(e api.Entry) bool { return e.Sku == sku })
+			want := sample.Those(list, func(e api.Entry) bool { return e.Sku == sku })
 			if got, err := lines.Of(list, sku); !same(got, want) || err != api.OK {
 				t.Errorf("Of(%v, %q) = %v, %d, want %v", list, sku, got, err, want)
 			}
@@ -69,7 +70,7 @@ func TestOf(t *testing.T) { // P6.2
 			}
 		}
 	}
-	for _, list := range badLists() {
+	for _, list := range sample.WrongEntryLists() {
 		for _, sku := range []string{"A", "a"} {
 			if got, err := lines.Of(list, sku); len(got) != 0 || err != api.ErrForm {
 				t.Errorf("Of(%v, %q) = %v, %d", list, sku, got, err)
@@ -85,7 +86,7 @@ func TestOwn(t *testing.T) { // P6.2
 	for _, list := range samples(150) {
 		for rep := range api.MaxReps {
 			for _, sku := range someSkus() {
-				want := those(list, func(e api.Entry) bool { return e.Dot.Rep == rep && e.Sku == sku })
+				want := sample.Those(list, func(e api.Entry) bool { return e.Dot.Rep == rep && e.Sku == sku })
 				if got, err := lines.Own(list, rep, sku); !same(got, want) || err != api.OK {
 					t.Errorf("Own(%v, %d, %q) = %v, %d, want %v", list, rep, sku, got, err, want)
 				}
@@ -104,7 +105,7 @@ func TestOwn(t *testing.T) { // P6.2
 			}
 		}
 	}
-	for _, list := range badLists() {
+	for _, list := range sample.WrongEntryLists() {
 		for _, rep := range []int{0, 16} {
 			for _, sku := range []string{"A", "a"} {
 				if got, err := lines.Own(list, rep, sku); len(got) != 0 || err != api.ErrForm {
@@ -125,17 +126,17 @@ func TestDots(t *testing.T) { // P6.2
 			t.Errorf("Dots(%v) = %v, %d", list, got, err)
 		}
 		for _, e := range list {
-			if !member(got, e.Dot) {
+			if !sample.Has(got, e.Dot) {
 				t.Errorf("Dots(%v) = %v hasn't %v", list, got, e.Dot)
 			}
 		}
 	}
-	for _, list := range badLists() {
-		if got, err := lines.Dots(list); !samePast(got, api.Past{}) || err != api.ErrForm {
+	for _, list := range sample.WrongEntryLists() {
+		if got, err := lines.Dots(list); !sample.SamePast(got, api.Past{}) || err != api.ErrForm {
 			t.Errorf("Dots(%v) = %v, %d", list, got, err)
 		}
 	}
-	if got, err := lines.Dots(example()); !samePast(got, pa([]int{0, 1}, sp(0, 3, 3), sp(1, 4, 4))) || err != api.OK {
+	if got, err := lines.Dots(example()); !sample.SamePast(got, pa([]int{0, 1}, sp(0, 3, 3), sp(1, 4, 4))) || err != api.OK {
 		t.Errorf("Dots = %v, %d", got, err)
 	}
 }
@@ -143,8 +144,8 @@ func TestDots(t *testing.T) { // P6.2
 func TestInsideAndOutside(t *testing.T) { // P6.2
 	for _, list := range samples(80) {
 		for _, p := range pasts(80) {
-			inside := those(list, func(e api.Entry) bool { return member(p, e.Dot) })
-			outside := those(list, func(e api.Entry) bool { return !member(p, e.Dot) })
+			inside := sample.Those(list, func(e api.Entry) bool { return sample.Has(p, e.Dot) })
+			outside := sample.Those(list, func(e api.Entry) bool { return !sample.Has(p, e.Dot) })
 			if got, err := lines.Inside(list, p); !same(got, inside) || err != api.OK {
 				t.Errorf("Inside(%v, %v) = %v, %d, want %v", list, p, got, err, inside)
 			}
@@ -171,12 +172,12 @@ func TestInsideAndOutsideOutOfForm(t *testing.T) { // P6.2
 			t.Errorf("Outside(%v, %v) = %v, %d", list, p, got, err)
 		}
 	}
-	for _, p := range badPasts() {
+	for _, p := range sample.WrongPasts() {
 		refused(nil, p)
 		refused(example(), p)
-		refused(badLists()[0], p)
+		refused(sample.WrongEntryLists()[0], p)
 	}
-	for _, list := range badLists() {
+	for _, list := range sample.WrongEntryLists() {
 		refused(list, api.Past{})
 		refused(list, pa([]int{3}))
 	}

@@ -64,6 +64,26 @@ func Lines(list []api.Line) Region {
 	return ofValues(list, api.Line{Sku: "junk", Qty: junk, Parts: junk})
 }
 
+// Records: the memory of a list of records, and of their pasts, those in the list's spare room too.
+func Records(list []api.Record) []Region {
+	var all []Region
+	for _, r := range list[:cap(list)] {
+		all = append(all, Past(r.Past)...)
+	}
+	waste := api.Record{Sku: "junk", Past: api.Past{Vec: []int{junk}}}
+	// As with lists of lists, the list comes last.
+	return append(all, Of(list, waste, sameRecord))
+}
+
+func sameRecord(x, y api.Record) bool {
+	return x.Sku == y.Sku && slices.Equal(x.Past.Vec, y.Past.Vec) && slices.Equal(x.Past.Cloud, y.Past.Cloud)
+}
+
+// Facts: the memory of all lists of facts.
+func Facts(f api.Facts) []Region {
+	return slices.Concat([]Region{Entries(f.Adds)}, Past(f.Gone), Records(f.Recs))
+}
+
 // Lists: the memory of lists of numbers, and of the list that holds them.
 func Lists(lists [][]int) []Region { return ofLists(lists, junk) }
 

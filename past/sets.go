@@ -50,12 +50,20 @@ func Order(a, b api.Past) int {
 
 // Compare: -1, 0 or 1, a total order of contexts.
 func Compare(a, b api.Past) int {
-	x, y := Norm(a), Norm(b)
+	x, y := formed(a), formed(b)
 	// A vector in form that goes on has a number above 0 there, so that the one at its end comes first here too.
 	if by := slices.Compare(x.Vec, y.Vec); by != 0 {
 		return by
 	}
 	return slices.CompareFunc(x.Cloud, y.Cloud, compareSpans)
+}
+
+// formed: Norm, for one who only looks: a past that is in form already needs no copy.
+func formed(p api.Past) api.Past {
+	if IsNorm(p) {
+		return p
+	}
+	return Norm(p)
 }
 
 func compareSpans(x, y api.Span) int {

@@ -1,0 +1,34 @@
+package sample
+
+import (
+	"slices"
+
+	"barrow/api"
+)
+
+// RoomyEntries: the entries in new memory, with spare room behind them in which there is something to lose.
+func RoomyEntries(list []api.Entry) []api.Entry {
+	return slices.Concat(list, []api.Entry{Entry(0, 70, "Z", 7), Entry(0, 71, "Z", 7)})[:len(list)]
+}
+
+// RoomyPast: the past in new memory, with such room behind its lists.
+func RoomyPast(p api.Past) api.Past {
+	return api.Past{
+		Vec:   slices.Concat(p.Vec, []int{70, 71})[:len(p.Vec)],
+		Cloud: slices.Concat(p.Cloud, []api.Span{Span(1, 70, 71), Span(2, 72, 73)})[:len(p.Cloud)],
+	}
+}
+
+// RoomyRecords: the records and their pasts in new memory, with such room behind each list.
+func RoomyRecords(list []api.Record) []api.Record {
+	room := slices.Concat(list, []api.Record{Record("Y", []int{70}), Record("Z", nil, Span(1, 70, 71))})
+	for i, r := range room {
+		room[i].Past = RoomyPast(r.Past)
+	}
+	return room[:len(list)]
+}
+
+// RoomyFacts: the facts in new memory, with such room behind each list.
+func RoomyFacts(f api.Facts) api.Facts {
+	return api.Facts{Adds: RoomyEntries(f.Adds), Gone: RoomyPast(f.Gone), Recs: RoomyRecords(f.Recs)}
+}
