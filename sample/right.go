@@ -76,10 +76,12 @@ func Pasts(roll Roll, count int) []api.Past {
 		Past(slices.Repeat([]int{1}, 16), Span(0, 3, 3), Span(0, 5, 5), Span(1, 3, 4), Span(1, 6, 6), Span(2, 5, 6)),
 	}
 	for range count {
-		all = append(all, past.Norm(LoosePast(roll)))
+		all = append(all, looseNorm(roll))
 	}
 	return all
 }
+
+func looseNorm(roll Roll) api.Past { return past.Norm(LoosePast(roll)) }
 
 // LoosePast: a past of few dots, in any form.
 func LoosePast(roll Roll) api.Past {

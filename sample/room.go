@@ -6,7 +6,10 @@ import (
 	"barrow/api"
 )
 
-// RoomyEntries: the entries in new memory, with spare room behind them in which there is something to lose.
+// RoomyBytes: the bytes in new memory, with spare room behind them in which there is something to lose.
+func RoomyBytes(b []byte) []byte { return slices.Concat(b, []byte{70, 71, 72})[:len(b)] }
+
+// RoomyEntries: the entries in new memory, with such room behind them.
 func RoomyEntries(list []api.Entry) []api.Entry {
 	return slices.Concat(list, []api.Entry{Entry(0, 70, "Z", 7), Entry(0, 71, "Z", 7)})[:len(list)]
 }

@@ -7,13 +7,13 @@ import (
 
 	"barrow/api"
 	"barrow/memcheck"
+	"barrow/sample"
 	"barrow/wire"
 )
 
 type region = memcheck.Region
 
-// roomy: the bytes with spare room behind them, in which there is something to lose.
-func roomy(b []byte) []byte { return slices.Concat(b, []byte{70, 71, 72})[:len(b)] }
+func roomy(b []byte) []byte { return sample.RoomyBytes(b) }
 
 // A caller makes a call of wire and tells the memory of all that it answers.
 type caller struct {
