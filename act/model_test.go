@@ -203,7 +203,7 @@ func effected(live []api.Entry, f api.Facts) ([]api.Entry, api.Errno) {
 		if len(f.Adds) == 1 && f.Adds[0].Dot == e.Dot {
 			return nil, api.ErrClash
 		}
-		covered := slices.ContainsFunc(f.Recs, func(r api.Record) bool { return (r.Sku == "" || r.Sku == e.Sku) && sample.Has(r.Past, e.Dot) })
+		covered := slices.ContainsFunc(f.Recs, func(r api.Record) bool { return sample.Covers(r, e) })
 		if !sample.Has(f.Gone, e.Dot) && !covered {
 			out = append(out, e)
 		}

@@ -14,7 +14,7 @@ func TestCovers(t *testing.T) { // P7.2
 		for _, sku := range []string{"", "A", "B", "a", "\xff"} {
 			r := api.Record{Sku: sku, Past: p}
 			for _, e := range looseEntries() {
-				if got := keep.Covers(r, e); got != covers(r, e) {
+				if got := keep.Covers(r, e); got != sample.Covers(r, e) {
 					t.Errorf("Covers(%v, %v) = %t", r, e, got)
 				}
 			}

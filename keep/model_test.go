@@ -42,14 +42,6 @@ func same(a, b []api.Record) bool { return sample.SameRecords(a, b) }
 
 func sameEntries(a, b []api.Entry) bool { return slices.Equal(a, b) }
 
-// covers is the chapter's definition, word by word.
-func covers(r api.Record, e api.Entry) bool {
-	if r.Sku != "" && r.Sku != e.Sku {
-		return false
-	}
-	return sample.Has(r.Past, e.Dot)
-}
-
 // order is the order of records.
 func order(x, y api.Record) int {
 	switch {

@@ -249,7 +249,7 @@ func TestWhatWaitsAtMoreWaitsAtLess(t *testing.T) { // P7.3
 }
 
 func barred(list []api.Record, e api.Entry) int {
-	return len(sample.Those(list, func(r api.Record) bool { return covers(r, e) }))
+	return len(sample.Those(list, func(r api.Record) bool { return sample.Covers(r, e) }))
 }
 
 func TestFold(t *testing.T) { // P7.4

@@ -84,6 +84,11 @@ func Facts(f api.Facts) []Region {
 	return slices.Concat([]Region{Entries(f.Adds)}, Past(f.Gone), Records(f.Recs))
 }
 
+// Swot: the memory of all lists of a compact state.
+func Swot(s api.Swot) []Region {
+	return slices.Concat([]Region{Entries(s.Live)}, Past(s.Past), Records(s.Defer))
+}
+
 // Lists: the memory of lists of numbers, and of the list that holds them.
 func Lists(lists [][]int) []Region { return ofLists(lists, junk) }
 

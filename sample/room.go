@@ -35,3 +35,8 @@ func RoomyRecords(list []api.Record) []api.Record {
 func RoomyFacts(f api.Facts) api.Facts {
 	return api.Facts{Adds: RoomyEntries(f.Adds), Gone: RoomyPast(f.Gone), Recs: RoomyRecords(f.Recs)}
 }
+
+// RoomySwot: the state in new memory, with such room behind each list.
+func RoomySwot(s api.Swot) api.Swot {
+	return api.Swot{Live: RoomyEntries(s.Live), Past: RoomyPast(s.Past), Defer: RoomyRecords(s.Defer)}
+}

@@ -41,6 +41,11 @@ func SameFacts(a, b api.Facts) bool {
 	return slices.Equal(a.Adds, b.Adds) && SamePast(a.Gone, b.Gone) && SameRecords(a.Recs, b.Recs)
 }
 
+// SameSwot: one compact state as it stands, where nil and empty are one.
+func SameSwot(a, b api.Swot) bool {
+	return slices.Equal(a.Live, b.Live) && SamePast(a.Past, b.Past) && SameRecords(a.Defer, b.Defer)
+}
+
 // Has is the document's definition of what any Past means, word by word.
 func Has(p api.Past, d api.Dot) bool {
 	if d.Rep < 0 || d.Rep > 15 || d.Num < 1 || d.Num > 1000000000 {
@@ -50,6 +55,23 @@ func Has(p api.Past, d api.Dot) bool {
 		return true
 	}
 	return slices.ContainsFunc(p.Cloud, func(s api.Span) bool { return s.Rep == d.Rep && s.Lo <= d.Num && d.Num <= s.Hi })
+}
+
+// Covers is the document's definition of what a record covers, word by word.
+func Covers(r api.Record, e api.Entry) bool {
+	return (r.Sku == "" || r.Sku == e.Sku) && Has(r.Past, e.Dot)
+}
+
+// Dots: all dots about which the samples are, and their neighbours.
+func Dots() []api.Dot {
+	var all []api.Dot
+	for rep := range api.MaxReps {
+		for num := 1; num <= 10; num++ {
+			all = append(all, api.Dot{Rep: rep, Num: num}, api.Dot{Rep: rep, Num: api.MaxNum + 1 - num})
+		}
+		all = append(all, api.Dot{Rep: rep, Num: api.MaxNum / 2})
+	}
+	return all
 }
 
 // Those: the items of the list, in their order, for which keep holds.

@@ -58,9 +58,7 @@ func hasRec(f api.Facts, r api.Record) bool {
 }
 
 func removed(f api.Facts, e api.Entry) bool {
-	return sample.Has(f.Gone, e.Dot) || slices.ContainsFunc(f.Recs, func(r api.Record) bool {
-		return (r.Sku == "" || r.Sku == e.Sku) && sample.Has(r.Past, e.Dot)
-	})
+	return sample.Has(f.Gone, e.Dot) || slices.ContainsFunc(f.Recs, func(r api.Record) bool { return sample.Covers(r, e) })
 }
 
 // live is the document's definition, word by word.
@@ -88,18 +86,6 @@ func clashing(a, b api.Facts) (api.Dot, bool) {
 	return first, found
 }
 
-// dots: all dots about which the samples are, and their neighbours.
-func dots() []api.Dot {
-	var all []api.Dot
-	for rep := range api.MaxReps {
-		for num := 1; num <= 10; num++ {
-			all = append(all, api.Dot{Rep: rep, Num: num}, api.Dot{Rep: rep, Num: api.MaxNum + 1 - num})
-		}
-		all = append(all, api.Dot{Rep: rep, Num: api.MaxNum / 2})
-	}
-	return all
-}
-
 // holdsJust: is got in form, and a fact in it just if it is wanted? The facts of a and b are asked about, and got's own.
 func holdsJust(got, a, b api.Facts, wantAdd func(e api.Entry) bool, wantGone func(d api.Dot) bool, wantRec func(r api.Record) bool) bool {
 	if !inForm(got) {
@@ -110,7 +96,7 @@ func holdsJust(got, a, b api.Facts, wantAdd func(e api.Entry) bool, wantGone fun
 			return false
 		}
 	}
-	for _, d := range dots() {
+	for _, d := range sample.Dots() {
 		if sample.Has(got.Gone, d) != wantGone(d) {
 			return false
 		}
@@ -146,7 +132,7 @@ func within(a, b api.Facts) bool {
 			return false
 		}
 	}
-	for _, d := range dots() {
+	for _, d := range sample.Dots() {
 		if sample.Has(a.Gone, d) && !sample.Has(b.Gone, d) {
 			return false
 		}

@@ -63,7 +63,7 @@ func TestPast(t *testing.T) { // P10.1
 		if !past.IsNorm(got) || err != api.OK {
 			t.Errorf("Past(%v) = %v, %d", f, got, err)
 		}
-		for _, d := range dots() {
+		for _, d := range sample.Dots() {
 			if past.Has(got, d) != heard(f, d) {
 				t.Errorf("Past(%v) = %v: %v", f, got, d)
 			}
@@ -222,7 +222,7 @@ func checkLiveBehind(t *testing.T, a, b api.Facts) {
 		}
 	}
 	p, err := tomb.Past(j)
-	for _, d := range dots() {
+	for _, d := range sample.Dots() {
 		if past.Has(p, d) != (heard(a, d) || heard(b, d)) || err != api.OK {
 			t.Errorf("%v is heard of in the join of %v and %v: %t, %d", d, a, b, past.Has(p, d), err)
 		}
