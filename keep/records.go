@@ -1,6 +1,7 @@
 package keep
 
 import (
+	"cmp"
 	"maps"
 	"slices"
 	"strings"
@@ -92,11 +93,32 @@ func Waits(rs []api.Record, p api.Past) ([]api.Record, api.Errno) {
 	}
 	var out []api.Record
 	for _, r := range rs {
-		if !past.Within(r.Past, p) {
+		if !within(r.Past, p) {
 			out = append(out, copied(r))
 		}
 	}
 	return out, api.OK
+}
+
+// within is past.Within, for canonical pasts: that one takes any, and goes through all of p, which is too slow where each of many records asks.
+func within(a, p api.Past) bool {
+	for rep, n := range a.Vec {
+		if n > 0 && !holds(p, api.Span{Rep: rep, Lo: 1, Hi: n}) {
+			return false
+		}
+	}
+	return !slices.ContainsFunc(a.Cloud, func(s api.Span) bool { return !holds(p, s) })
+}
+
+// holds: of a canonical past no two pieces touch, so that a span is in it just if it is in one piece.
+func holds(p api.Past, s api.Span) bool {
+	if s.Rep < len(p.Vec) && s.Hi <= p.Vec[s.Rep] {
+		return true
+	}
+	at, _ := slices.BinarySearchFunc(p.Cloud, s, func(x, s api.Span) int {
+		return cmp.Or(cmp.Compare(x.Rep, s.Rep), cmp.Compare(x.Hi, s.Hi))
+	})
+	return at < len(p.Cloud) && p.Cloud[at].Rep == s.Rep && p.Cloud[at].Lo <= s.Lo
 }
 
 // Fold: one record a SKU, which cover the same entries.

@@ -194,6 +194,35 @@ func holds(p api.Past, s api.Span) bool {
 	return slices.ContainsFunc(spans(p), func(x api.Span) bool { return x.Rep == s.Rep && x.Lo <= s.Lo && s.Hi <= x.Hi })
 }
 
+func TestWaitsOfVeryMany(t *testing.T) { // P7.3
+	const count = 20000
+	var p api.Past
+	var list, want []api.Record
+	for i := range count {
+		p.Cloud = append(p.Cloud, sp(3, 4*i+2, 4*i+4))
+	}
+	for i := range count {
+		// The past has all of each other one; of the rest it lacks the first dot, or the last.
+		s := sp(3, 4*i+2, 4*i+4)
+		switch i % 4 {
+		case 1:
+			s.Lo--
+		case 3:
+			s.Hi++
+		}
+		// A first span of its own keeps the records rising.
+		r := re("A", nil, sp(2, i+2, i+2), s)
+		list = append(list, r)
+		if i%2 == 1 {
+			want = append(want, r)
+		}
+	}
+	p.Cloud = slices.Insert(p.Cloud, 0, sp(2, 2, count+1))
+	if got, err := keep.Waits(list, p); !same(got, want) || err != api.OK {
+		t.Errorf("Waits answers %d of %d records, %d", len(got), len(want), err)
+	}
+}
+
 func TestWaitsOutOfForm(t *testing.T) { // P7.3
 	refused := func(list []api.Record, p api.Past) {
 		t.Helper()

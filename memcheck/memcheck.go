@@ -89,6 +89,14 @@ func Swot(s api.Swot) []Region {
 	return slices.Concat([]Region{Entries(s.Live)}, Past(s.Past), Records(s.Defer))
 }
 
+// Digest: the memory of all lists of a digest.
+func Digest(d api.Digest) []Region { return slices.Concat(Past(d.Heard), Past(d.Live)) }
+
+// Fates: the memory of a list of fates.
+func Fates(list []api.Fate) Region {
+	return ofValues(list, api.Fate{Dot: api.Dot{Rep: junk, Num: junk}, Kind: junk, Recs: junk})
+}
+
 // Lists: the memory of lists of numbers, and of the list that holds them.
 func Lists(lists [][]int) []Region { return ofLists(lists, junk) }
 

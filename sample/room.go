@@ -40,3 +40,8 @@ func RoomyFacts(f api.Facts) api.Facts {
 func RoomySwot(s api.Swot) api.Swot {
 	return api.Swot{Live: RoomyEntries(s.Live), Past: RoomyPast(s.Past), Defer: RoomyRecords(s.Defer)}
 }
+
+// RoomyDigest: the digest in new memory, with such room behind each list.
+func RoomyDigest(d api.Digest) api.Digest {
+	return api.Digest{Heard: RoomyPast(d.Heard), Live: RoomyPast(d.Live)}
+}
