@@ -76,7 +76,11 @@ func Records(list []api.Record) []Region {
 }
 
 func sameRecord(x, y api.Record) bool {
-	return x.Sku == y.Sku && slices.Equal(x.Past.Vec, y.Past.Vec) && slices.Equal(x.Past.Cloud, y.Past.Cloud)
+	return x.Sku == y.Sku && samePast(x.Past, y.Past)
+}
+
+func samePast(x, y api.Past) bool {
+	return slices.Equal(x.Vec, y.Vec) && slices.Equal(x.Cloud, y.Cloud)
 }
 
 // Facts: the memory of all lists of facts.
@@ -102,6 +106,37 @@ func Lists(lists [][]int) []Region { return ofLists(lists, junk) }
 
 // ByteLists: the memory of lists of bytes, and of the list that holds them.
 func ByteLists(lists [][]byte) []Region { return ofLists(lists, junkByte) }
+
+// LineLists: the memory of lists of lines, and of the list that holds them.
+func LineLists(lists [][]api.Line) []Region {
+	return ofLists(lists, api.Line{Sku: "junk", Qty: junk, Parts: junk})
+}
+
+// FactsList: the memory of a list of facts, and of all their lists, those in the list's spare room too.
+func FactsList(list []api.Facts) []Region {
+	return ofStates(list, api.Facts{Adds: []api.Entry{{Qty: junk}}}, Facts, sameFacts)
+}
+
+// SwotList: the same of a list of compact states.
+func SwotList(list []api.Swot) []Region {
+	return ofStates(list, api.Swot{Live: []api.Entry{{Qty: junk}}}, Swot, sameSwot)
+}
+
+func ofStates[S any](list []S, waste S, lists func(s S) []Region, equal func(x, y S) bool) []Region {
+	var all []Region
+	for _, s := range list[:cap(list)] {
+		all = append(all, lists(s)...)
+	}
+	return append(all, Of(list, waste, equal))
+}
+
+func sameFacts(x, y api.Facts) bool {
+	return slices.Equal(x.Adds, y.Adds) && samePast(x.Gone, y.Gone) && slices.EqualFunc(x.Recs, y.Recs, sameRecord)
+}
+
+func sameSwot(x, y api.Swot) bool {
+	return slices.Equal(x.Live, y.Live) && samePast(x.Past, y.Past) && slices.EqualFunc(x.Defer, y.Defer, sameRecord)
+}
 
 func ofLists[T comparable](lists [][]T, waste T) []Region {
 	var all []Region

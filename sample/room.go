@@ -45,3 +45,21 @@ func RoomySwot(s api.Swot) api.Swot {
 func RoomyDigest(d api.Digest) api.Digest {
 	return api.Digest{Heard: RoomyPast(d.Heard), Live: RoomyPast(d.Live)}
 }
+
+// RoomyFactsList: the list and its facts in new memory, with such room behind each list.
+func RoomyFactsList(list []api.Facts) []api.Facts {
+	return roomyList(list, api.Facts{Adds: []api.Entry{Entry(0, 70, "Z", 7)}}, RoomyFacts)
+}
+
+// RoomySwotList: the list and its states in new memory, with such room behind each list.
+func RoomySwotList(list []api.Swot) []api.Swot {
+	return roomyList(list, api.Swot{Past: Past([]int{70})}, RoomySwot)
+}
+
+func roomyList[S any](list []S, spare S, roomy func(s S) S) []S {
+	room := slices.Concat(list, []S{spare, spare})
+	for i, s := range room {
+		room[i] = roomy(s)
+	}
+	return room[:len(list)]
+}
