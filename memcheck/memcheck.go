@@ -2,6 +2,7 @@
 package memcheck
 
 import (
+	"bytes"
 	"slices"
 
 	"barrow/api"
@@ -100,6 +101,14 @@ func Digest(d api.Digest) []Region { return slices.Concat(Past(d.Heard), Past(d.
 func Fates(list []api.Fate) Region {
 	return ofValues(list, api.Fate{Dot: api.Dot{Rep: junk, Num: junk}, Kind: junk, Recs: junk})
 }
+
+// Mail: the memory of a mail's parts, and of their bodies, those in the list's spare room too.
+func Mail(m api.Mail) []Region {
+	bodies := func(p api.Part) []Region { return []Region{Bytes(p.Body)} }
+	return ofStates(m.Parts, api.Part{Cart: junk, Body: []byte{junkByte}}, bodies, samePart)
+}
+
+func samePart(x, y api.Part) bool { return x.Cart == y.Cart && bytes.Equal(x.Body, y.Body) }
 
 // Lists: the memory of lists of numbers, and of the list that holds them.
 func Lists(lists [][]int) []Region { return ofLists(lists, junk) }
