@@ -204,29 +204,10 @@ func roomyHead(dice *rand.Rand) api.Header {
 	return api.Header{Reps: 2 + dice.IntN(4), Carts: 1 + dice.IntN(3), Lines: 9, Count: 1000, Log: dice.IntN(6), Tokens: 9}
 }
 
-// thrownAct: an act, now and then one that is refused.
-func thrownAct(dice *rand.Rand) api.Act {
-	a := api.Act{Kind: 1 + dice.IntN(6), Sku: []string{"A", "B", "C", "A-1", "A", "A"}[dice.IntN(6)], Qty: 1 + dice.IntN(9)}
-	switch dice.IntN(12) {
-	case 0:
-		a.Kind = []int{0, 7, -1, 1 << 40}[dice.IntN(4)]
-	case 1:
-		a.Sku = []string{"", "a", "-", "D", "E", "F"}[dice.IntN(6)]
-	case 2:
-		a.Kind, a.Qty = 1+dice.IntN(2), []int{0, -1, api.MaxQty, api.MaxQty + 1, api.MaxQty - 5}[dice.IntN(5)]
-	case 3:
-		a.Kind = api.ActClear
-	}
-	if a.Kind == api.ActRemoveTo || a.Kind == api.ActClearTo {
-		a.Past = []api.Past{{}, {Vec: []int{1}}, {Vec: []int{0, 2}}, {Vec: []int{0}}, {Vec: []int{2, 3, 1}}, {Cloud: []api.Span{{Rep: 0, Lo: 3, Hi: 4}}}}[dice.IntN(6)]
-	}
-	return a
-}
-
 // thrownStep: any step, now and then with a replica or a cart that there isn't.
 func thrownStep(dice *rand.Rand, h api.Header) step {
 	words := []string{"act", "act", "act", "act", "act", "act by token", "read", "read", "sync", "sync", "full", "ask", "push", "deliver", "deliver", "deliver", "deliver", "deliver", "deliver", "cut", "stray", "restart"}
-	st := step{what: words[dice.IntN(len(words))], rep: dice.IntN(h.Reps), to: dice.IntN(h.Reps), cart: dice.IntN(h.Carts), num: dice.IntN(4), bytes: 1 + dice.IntN(1+dice.IntN(40)), act: thrownAct(dice)}
+	st := step{what: words[dice.IntN(len(words))], rep: dice.IntN(h.Reps), to: dice.IntN(h.Reps), cart: dice.IntN(h.Carts), num: dice.IntN(4), bytes: 1 + dice.IntN(1+dice.IntN(40)), act: sample.ThrownAct(dice.IntN)}
 	switch st.what {
 	case "act by token":
 		st.act.Kind = []int{api.ActRemoveTo, api.ActClearTo}[dice.IntN(2)]
