@@ -121,6 +121,33 @@ func LineLists(lists [][]api.Line) []Region {
 	return ofLists(lists, api.Line{Sku: "junk", Qty: junk, Parts: junk})
 }
 
+// LineTables: the memory of lists of such lists, and of the list that holds them.
+func LineTables(tables [][][]api.Line) []Region {
+	same := func(x, y [][]api.Line) bool { return slices.EqualFunc(x, y, slices.Equal[[]api.Line]) }
+	return ofStates(tables, [][]api.Line{{{Sku: "junk"}}}, LineLists, same)
+}
+
+// Ops: the memory of a list of ops.
+func Ops(list []api.Op) Region { return ofValues(list, api.Op{Kind: junk, Rep: junk, Sku: "junk"}) }
+
+// Answers: the memory of a list of answers, and of their lines, those in the list's spare room too.
+func Answers(list []api.Answer) []Region {
+	told := func(a api.Answer) []Region { return []Region{Lines(a.Lines)} }
+	return ofStates(list, api.Answer{Status: junk, Lines: []api.Line{{Sku: "junk"}}}, told, sameAnswer)
+}
+
+func sameAnswer(x, y api.Answer) bool {
+	return x.Status == y.Status && slices.Equal(x.Lines, y.Lines) && x.Token == y.Token && x.Msg == y.Msg
+}
+
+// Pairs: the memory of a list of pairs.
+func Pairs(list []api.Pair) Region { return ofValues(list, junkPair()) }
+
+// PairLists: the memory of lists of pairs, and of the list that holds them.
+func PairLists(lists [][]api.Pair) []Region { return ofLists(lists, junkPair()) }
+
+func junkPair() api.Pair { return api.Pair{From: junk, To: junk} }
+
 // FactsList: the memory of a list of facts, and of all their lists, those in the list's spare room too.
 func FactsList(list []api.Facts) []Region {
 	return ofStates(list, api.Facts{Adds: []api.Entry{{Qty: junk}}}, Facts, sameFacts)

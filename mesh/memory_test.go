@@ -13,20 +13,9 @@ import (
 
 type region = memcheck.Region
 
-// ofAll: the memory of lists of lists of lines, and of all that they hold.
-func ofAll(all [][][]api.Line) []region {
-	var regions []region
-	for _, lists := range all {
-		regions = append(regions, memcheck.LineLists(lists)...)
-	}
-	same := func(x, y [][]api.Line) bool { return slices.EqualFunc(x, y, slices.Equal[[]api.Line]) }
-	// The outermost list comes last: once it is written over, what it held can't be reached through it.
-	return append(regions, memcheck.Of(all, [][]api.Line{{{Sku: "junk"}}}, same))
-}
-
 // answered: the memory of all lists that the store's calls answer.
 func answered[S any, E engine.Engine[S]](m *mesh.Mesh[S, E], of func(s S) []region) []region {
-	all := append(ofAll(m.All()), memcheck.Numbers(m.Waiting()))
+	all := append(memcheck.LineTables(m.All()), memcheck.Numbers(m.Waiting()))
 	for rep := range m.Head().Reps + 1 {
 		touched, _ := m.Touched(rep)
 		all = append(all, memcheck.Numbers(touched))

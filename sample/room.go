@@ -56,6 +56,17 @@ func RoomySwotList(list []api.Swot) []api.Swot {
 	return roomyList(list, api.Swot{Past: Past([]int{70})}, RoomySwot)
 }
 
+// RoomyScript: the script with its ops in new memory, with such room behind them.
+func RoomyScript(s api.Script) api.Script {
+	s.Ops = slices.Concat(s.Ops, []api.Op{{Kind: 1, Sku: "Z"}, {Kind: 2}})[:len(s.Ops)]
+	return s
+}
+
+// RoomyPairs: the pairs in new memory, with such room behind them.
+func RoomyPairs(list []api.Pair) []api.Pair {
+	return slices.Concat(list, []api.Pair{{From: 70, To: 71}, {From: 1, To: 2}})[:len(list)]
+}
+
 func roomyList[S any](list []S, spare S, roomy func(s S) S) []S {
 	room := slices.Concat(list, []S{spare, spare})
 	for i, s := range room {
