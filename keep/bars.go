@@ -1,6 +1,8 @@
 package keep
 
 import (
+	"slices"
+
 	"barrow/api"
 	"barrow/lines"
 	"barrow/past"
@@ -31,6 +33,10 @@ func Apply(es []api.Entry, rs []api.Record) ([]api.Entry, api.Errno) {
 	folded, err := Fold(rs)
 	if err != api.OK {
 		return nil, err
+	}
+	if len(folded) == 0 {
+		// Most states have no record, and are asked often.
+		return slices.Clone(es), api.OK
 	}
 	dots := dotsBySku(es)
 	var barred []api.Past

@@ -140,6 +140,14 @@ func sameAnswer(x, y api.Answer) bool {
 	return x.Status == y.Status && slices.Equal(x.Lines, y.Lines) && x.Token == y.Token && x.Msg == y.Msg
 }
 
+// SizeLists: the memory of lists of sizes, and of the list that holds them.
+func SizeLists(lists [][]api.Size) []Region {
+	return ofLists(lists, api.Size{Bytes: junk, Live: junk, Skus: junk, Holes: junk, Waits: junk})
+}
+
+// Texts: the memory of a list of texts.
+func Texts(list []string) Region { return ofValues(list, "junk") }
+
 // Pairs: the memory of a list of pairs.
 func Pairs(list []api.Pair) Region { return ofValues(list, junkPair()) }
 
